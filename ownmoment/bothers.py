@@ -3,7 +3,7 @@
 from ownmoment.books import is_integer, is_thing, is_tuple_of, kinds_in
 from ownmoment.field import Field, cut_of, do_tuple, field_of, stand_of
 from ownmoment.runs import is_run
-from ownmoment.stands import cut_stand
+from ownmoment.stands import cut_stand, things_in
 from ownmoment.tables import can_do, stands_of
 
 POOLS = (((0, 0), (0, 1), (0, 2)), ((0, 0), (0, 1), (1, 0)), ((0, 0), (1, 0), (1, 1)), ((1, 0), (1, 1), (1, 2)))
@@ -59,7 +59,8 @@ def first_bother(book, run):
 
 def bother_of(book):
     """The least run, of three things, that bothers one or two of them, with these and the step, or None."""
-    runs = [run for run in _bothering_runs(book) if run is not None]
+    found = [_least_run(book, pool, table) for pool, table in _tables_of(book)]
+    runs = [run for run in found if run is not None]
     if not runs:
         return None
     least = min(runs, key=lambda run: (len(run), run))
@@ -69,52 +70,67 @@ def bother_of(book):
 
 def is_unbothered(book):
     """Whether no run bothers any things."""
-    return bother_of(book) is None
+    return a_bothering_run(book) is None
 
 
-def _bothering_runs(book):
-    """The least run that bothers, or None, for each of the pools."""
+def a_bothering_run(book):
+    """A run that bothers some things, not always the least one, or None."""
+    for pool, table in _tables_of(book):
+        run = _least_run(book, pool, table)
+        if run is not None:
+            return run
+    return None
+
+
+def _tables_of(book):
+    """Each of the pools, with all its stands; all of them are looked for, as some may have too many."""
     pools = [pool for pool in POOLS if all([x[0] < kinds_in(book) for x in pool])]
-    tables = [stands_of(book, pool) for pool in pools]
-    return [_least_run(book, pool, table) for pool, table in zip(pools, tables)]
+    return [(pool, stands_of(book, pool)) for pool in pools]
 
 
 def _least_run(book, pool, table):
-    kept = {}
+    cuts, alone = {}, {}
     for stand, run in table:
         for deed, x in can_do(book, stand, pool):
             # Going has no steps, and so bothers nothing.
-            if deed >= 0 and _is_bothering(book, stand, deed, x, kept):
+            if deed >= 0 and _is_bothering(book, stand, deed, x, cuts, alone):
                 return run + [(deed, x)]
     return None
 
 
-def _is_bothering(book, stand, deed, x, kept):
+def _is_bothering(book, stand, deed, x, cuts, alone):
     """Whether (deed, x), done at the stand, bothers things of which just one that is there is left out.
 
     Where no such set is bothered, a smaller one could only be bothered by the run without the thing that
     is left out, which is shorter and has been looked at before. So these sets are enough.
     """
     field = field_of(stand)
-    steps = do_tuple(book, field, deed, x, stand_of)
+    steps = [(place, _cuts_of(step, cuts)) for place, step in do_tuple(book, field, deed, x, stand_of)]
     there = sorted(field.marks)
-    for out in there:
-        some = tuple([y for y in there if y != out])
-        cut = cut_stand(stand, some)
-        shown = [(place, cut_stand(step, some)) for place, step in steps]
+    for at, out in enumerate(there):
+        before = cut_stand(stand, [y for y in there if y != out])
+        shown = [(place, step[at]) for place, step in steps]
         if out == x:
-            if _first_otherwise(shown, cut) is not None:
+            if _first_otherwise(shown, before) is not None:
                 return True
-        elif shown != _steps_alone(book, cut, deed, x, kept):
+        elif shown != _steps_alone(book, before, deed, x, alone):
             return True
     return False
 
 
-def _steps_alone(book, stand, deed, x, kept):
-    # The same few stands of two things are asked for again and again.
-    if (stand, deed, x) not in kept:
-        kept[(stand, deed, x)] = do_tuple(book, field_of(stand), deed, x, stand_of)
-    return kept[(stand, deed, x)]
+def _cuts_of(stand, cuts):
+    """The stand without each of its things in turn. The same stands are asked for again and again."""
+    if stand not in cuts:
+        there = things_in(stand)
+        cuts[stand] = [cut_stand(stand, [y for y in there if y != out]) for out in there]
+    return cuts[stand]
+
+
+def _steps_alone(book, stand, deed, x, alone):
+    """The steps of (deed, x) at a stand of fewer things, which is asked for again and again as well."""
+    if (stand, deed, x) not in alone:
+        alone[(stand, deed, x)] = do_tuple(book, field_of(stand), deed, x, stand_of)
+    return alone[(stand, deed, x)]
 
 
 def is_bother(book, thing):

@@ -117,18 +117,23 @@ def _execute(field, x, statement):
     action(field, x, statement)
 
 
-def _holds(field, test, x, y, row):
-    """Whether the test holds for x and y, row being the side row, or None."""
+def _ahead_in(field, row, x):
+    """The things ahead of x in the row, as the keys of a dict."""
+    order = field.rows[row]
+    return {y: True for y in order[:order.index(x)]}
+
+
+def _ahead_beside(field, row, x):
+    """The things ahead of x in the row that is not this one, or None if there is no other row."""
+    return _ahead_in(field, 1 - row, x) if len(field.rows) == 2 else None
+
+
+def _holds(field, test, x, y, ahead):
+    """Whether the test holds for x and y, ahead being what is ahead of x in the side row, or None."""
     side = 0
-    if row is not None:
-        order = field.rows[row]
-        side = 1 if order.index(y) < order.index(x) else 2
+    if ahead is not None:
+        side = 1 if y in ahead else 2
     return test_holds(test, field.marks[x], field.marks[y], y[0], field.notes.get((x, y), 0), side)
-
-
-def _side_row(field, row):
-    """The row in which a thing is not moved that is moved in this one, or None."""
-    return 1 - row if len(field.rows) == 2 else None
 
 
 def _mark(field, x, statement):
@@ -162,9 +167,9 @@ def _down(field, x, statement):
 def _pass(field, x, statement):
     _, moved, test = statement
     row = field.rows[moved]
-    side_row = _side_row(field, moved)
+    ahead = _ahead_beside(field, moved, x)
     place = row.index(x)
-    while place > 0 and _holds(field, test, x, row[place - 1], side_row):
+    while place > 0 and _holds(field, test, x, row[place - 1], ahead):
         place -= 1
     _put(row, x, place)
 
@@ -172,9 +177,9 @@ def _pass(field, x, statement):
 def _yield(field, x, statement):
     _, moved, test = statement
     row = field.rows[moved]
-    side_row = _side_row(field, moved)
+    ahead = _ahead_beside(field, moved, x)
     place = row.index(x)
-    while place + 1 < len(row) and _holds(field, test, x, row[place + 1], side_row):
+    while place + 1 < len(row) and _holds(field, test, x, row[place + 1], ahead):
         place += 1
     _put(row, x, place)
 
@@ -182,34 +187,34 @@ def _yield(field, x, statement):
 def _leap(field, x, statement):
     _, moved, test = statement
     row = field.rows[moved]
-    side_row = _side_row(field, moved)
-    for place, y in enumerate(row[:row.index(x)]):
-        if _holds(field, test, x, y, side_row):
-            _put(row, x, place)
-            return
+    ahead = _ahead_beside(field, moved, x)
+    fitting = [y for y in row[:row.index(x)] if _holds(field, test, x, y, ahead)]
+    if fitting:
+        _put(row, x, row.index(fitting[0]))
 
 
 def _fall(field, x, statement):
     _, moved, test = statement
     row = field.rows[moved]
-    side_row = _side_row(field, moved)
-    for place in range(len(row) - 1, row.index(x), -1):
-        if _holds(field, test, x, row[place], side_row):
-            _put(row, x, place)
-            return
+    ahead = _ahead_beside(field, moved, x)
+    fitting = [y for y in row[row.index(x) + 1:] if _holds(field, test, x, y, ahead)]
+    if fitting:
+        _put(row, x, row.index(fitting[-1]))
 
 
 def _marks(field, x, statement):
     _, test, table = statement
+    ahead = _ahead_in(field, 0, x)
     for y in list(field.rows[0]):
-        if y != x and _holds(field, test, x, y, 0):
+        if y != x and _holds(field, test, x, y, ahead):
             field.marks[y] = table[field.marks[y]]
 
 
 def _notes(field, x, statement):
     _, test, mine, theirs = statement
+    ahead = _ahead_in(field, 0, x)
     for y in list(field.rows[0]):
-        if y != x and _holds(field, test, x, y, 0):
+        if y != x and _holds(field, test, x, y, ahead):
             seen = field.notes.get((y, x), 0)
             field.note(x, y, mine[field.notes.get((x, y), 0)])
             field.note(y, x, theirs[seen])

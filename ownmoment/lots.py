@@ -1,6 +1,6 @@
 """Lots: which deeds of a rulebook can be had together without a bother."""
 
-from ownmoment.bothers import bother_of
+from ownmoment.bothers import a_bothering_run
 from ownmoment.books import deeds_in, limited_book
 
 
@@ -34,12 +34,12 @@ def _lots_of(book):
     for lot in sorted(lots, key=lambda some: -len(some)):
         if lot in free or any([_lies_in(least, lot) for least in bothering]):
             continue
-        bother = bother_of(limited_book(book, lot))
-        if bother is None:
+        run = a_bothering_run(limited_book(book, lot))
+        if run is None:
             for other in lots:
                 if _lies_in(other, lot):
                     free[other] = True
         else:
             # The run bothers as well where there are no other deeds than its own.
-            bothering.append([0] + [lot[deed] for deed, _ in bother[0] if deed > 0])
+            bothering.append([0] + [lot[deed] for deed, _ in run if deed > 0])
     return lots, free

@@ -28,6 +28,12 @@ MANY = ((0, 1), 5, 2, 1, (((), (("up", 0),)), ((1, 2, 3, 4), (("mark", (0, 2, 3,
 QUIET_MANY = ((0, 1), 5, 2, 1, (((), ()),) + MANY[4][1:])
 
 
+
+def blocked(mover, statement):
+    """Things of the kind mover come to the front; one of them may do the statement."""
+    return ((0, 1), 2, 1, 1, (((), (("if", (mover,), (("first", 0),), ()),)), ((mover,), (statement,))))
+
+
 class BotheredAtTest(unittest.TestCase):
 
     def test_things_of_the_set(self):
@@ -150,6 +156,14 @@ class BotherOfTest(unittest.TestCase):
         self.check(KINDS, ([(0, K), (0, A), (0, B), (1, B)], (B, K), 0))
         self.check(ROWS, ([(0, A), (0, B), (0, C), (1, A)], (A, C), 1))
         self.check(SECOND, ([(0, A), (0, B), (0, K), (1, K)], (A, K), 0))
+        # Each of the pools has one of its own.
+        for book, bother in (
+                (blocked(0, ("up", 0)), ([(0, A), (0, B), (0, C), (1, A)], (A, C), 0)),
+                (blocked(0, ("yield", 0, (((), (), (1,), (), 0),))), ([(0, A), (0, B), (0, K), (1, B)], (B, K), 0)),
+                (blocked(1, ("yield", 0, (((), (), (0,), (), 0),))), ([(0, A), (0, K), (0, M), (1, M)], (A, M), 0)),
+                (blocked(1, ("up", 0)), ([(0, K), (0, M), (0, (1, 2)), (1, K)], (K, (1, 2)), 0))):
+            self.check(book, bother)
+            self.assertEqual(model.bother_of(book), bother)
         # A bother with two things alone: one that comes changes the mark of the other one.
         self.check(((0,), 2, 1, 1, (((), (("marks", (ALWAYS,), (1, 1)),)),)), ([(0, A), (0, B)], (A,), 0))
 
@@ -249,6 +263,12 @@ class IsBotherTest(unittest.TestCase):
         if not all(model.ok_thing(x) for x in some) or list(some) != sorted(set(some)) or not set(some) <= {x for _, x in run}:
             return False
         return model.bothered_at(book, run, some) == (len(run) - 1, at)
+
+    def test_the_argument_stays_as_it_is(self):
+        for value in (SWAP_BOTHER, (SWAP_BOTHER[0][:3], (A, C), 0), (SWAP_BOTHER[0], (A, B), 0)):
+            before = lasting(value)
+            is_bother(SWAP, value)
+            self.assertEqual(lasting(value), before)
 
     def test_of_what_bother_of_returns(self):
         for book in (SWAP, MARKS, KINDS, ROWS, SECOND):

@@ -180,6 +180,10 @@ class IsMachineTest(unittest.TestCase):
         self.check(both, True)
         for label in ((1, 0), (2, 0), (-1, 0), (0, -1), (0, True), (False, 0), (0,), (0, 0, 0), [0, 0], None, 0, (0, "0"), ((0, 0),)):
             self.check(changed(both, (1, 0, 2), label), False)
+        # At a point to which nothing leads, the label is looked at as well.
+        apart = changed(changed(both, (2,), ((None,), (None,))), (0,), (0,))
+        for label, good in (((0, 0), True), ((0, 9), True), ((1, 0), False), ((-1, 0), False), ((0, -1), False), ((True, 0), False), ((), False)):
+            self.check(changed(apart, (1, 1, 2), label), good)
         # Another kind than begins or moves lead to.
         self.check(changed(LABELLED, (0,), (1, 0)), False)
         self.check(changed(LABELLED, (0,), (0, 0)), False)

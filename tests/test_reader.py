@@ -221,6 +221,7 @@ class ReadBookTest(unittest.TestCase):
 
     def test_indents(self):
         for lines, line in (
+                ("come\n  up 0\n deed 0", 4), ("come\n if 0\n   up 0\n  deed 0", 5), ("come\n up 0\ndeed 0\n  up 0\n deed 0\n  up 0", 6),
                 ("come\nfirst 0", 3), ("come\n first 0\n  first 0", 4), ("come\n  first 0\n first 0", 4), ("come\n first 0\nfirst 0", 4),
                 ("come\n if 0\nfirst 0", 4), ("come\n if 0\n   first 0\n  first 0", 5), ("come\n if 0\n  first 0\n   first 0", 5),
                 ("come\n  if 0\n    first 0\n first 0", 5), ("come\n  if 0\n    first 0\n   else", 5), ("come\n  if 0\n    first 0\n    else", 5),
