@@ -1,6 +1,6 @@
 """Machines: they lead each thing by its own past alone, and sort the rows by what they remember of it."""
 
-from ownmoment.books import is_integer, is_tuple_of, is_within
+from ownmoment.books import is_integer, is_thing, is_tuple_of, is_within
 from ownmoment.errors import NoIndex
 
 MOST_KINDS = 2
@@ -135,29 +135,50 @@ def led_on(machine, figures, run, now):
 
 def _led(machine, there, run, now):
     """Leads the figures on, as far as it is let; the index of the first tuple that is not, or None."""
-    begins, _, moves = machine
     for at, (deed, x) in enumerate(run):
-        if (deed == 0) == (x in there):
+        if not can_lead(machine, there, deed, x):
             return at
-        if deed == 0:
-            there[x] = (begins[x[0]], (now + at,))
-        elif deed == -1:
-            del there[x]
-        else:
-            point, times = there[x]
-            entry = moves[point][deed - 1]
-            if entry is None:
-                return at
-            there[x] = (entry[0], tuple([now + at if k == -1 else times[k] for k in entry[1]]))
+        lead(machine, there, deed, x, now + at)
     return None
+
+
+def can_lead(machine, there, deed, x):
+    """Whether the machine lets (deed, x), there being a dict with the figures of what is there."""
+    if deed == 0:
+        return x not in there
+    if x not in there:
+        return False
+    return deed == -1 or machine[2][there[x][0]][deed - 1] is not None
+
+
+def lead(machine, there, deed, x, now):
+    """Does (deed, x), which is let, at the moment now: there is changed."""
+    if deed == 0:
+        there[x] = (machine[0][x[0]], (now,))
+    elif deed == -1:
+        del there[x]
+    else:
+        point, times = there[x]
+        behind, take = machine[2][point][deed - 1]
+        there[x] = (behind, tuple([now if k == -1 else times[k] for k in take]))
+
+
+def is_deed_of(machine, thing):
+    """Whether it is -1 or a deed of the machine."""
+    return is_within(thing, -1, machine_deeds(machine) - 1)
+
+
+def is_thing_led(machine, thing):
+    """Whether it is a thing of a kind of the machine."""
+    return is_thing(thing) and thing[0] < machine_kinds(machine)
 
 
 def is_ahead_by(machine, row, one, other):
     """Whether a thing with the figure one is ahead of another one with the figure other."""
-    return _place_by(machine, row, one) < _place_by(machine, row, other)
+    return place_by(machine, row, one) < place_by(machine, row, other)
 
 
-def _place_by(machine, row, figure):
+def place_by(machine, row, figure):
     """The rank and the moment of a thing, the moment such that the lesser one is ahead."""
     point, times = figure
     rank, way, at = machine[1][point][0][row]
@@ -166,7 +187,7 @@ def _place_by(machine, row, figure):
 
 def row_by(machine, row, figures):
     """The things as they stand in the row, the front first."""
-    return [x for x, _ in sorted(figures, key=lambda one: _place_by(machine, row, one[1]))]
+    return [x for x, _ in sorted(figures, key=lambda one: place_by(machine, row, one[1]))]
 
 
 def row_machine(machine, row):

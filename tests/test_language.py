@@ -26,6 +26,12 @@ INTERFACE = {
     "bothers": "bothered_at first_bother bother_of is_unbothered is_bother",
     "lots": "free_lots bothering_lots",
     "machines": "is_machine is_ahead_by machine_kinds machine_deeds machine_rows first_barred point_behind figures_of led_on row_by row_machine",
+    "least": "least_machine needed_at is_least alike_points",
+    "twins": "twins_run critical_at live_at",
+    "compiler": "machine_of full_machine is_machine_of",
+    "back": "book_of",
+    "alike": "joint_points are_alike is_parting parting_run",
+    "favours": "run_ahead never_worse",
 }
 PARAMETERS = {
     "errors.Bothered": "self run some at", "errors.IsThere": "self thing", "errors.NoIndex": "self index", "errors.NoOrder": "self pair",
@@ -44,7 +50,12 @@ PARAMETERS = {
     "machines.is_ahead_by": "machine row one other", "machines.machine_kinds": "machine", "machines.machine_deeds": "machine",
     "machines.machine_rows": "machine", "machines.first_barred": "machine run", "machines.point_behind": "machine kind past",
     "machines.figures_of": "machine run", "machines.led_on": "machine figures run now", "machines.row_by": "machine row figures",
-    "machines.row_machine": "machine row",
+    "machines.row_machine": "machine row", "least.least_machine": "machine", "least.needed_at": "machine point", "least.is_least": "machine",
+    "least.alike_points": "machine", "twins.twins_run": "kind past index", "twins.critical_at": "book row kind past",
+    "twins.live_at": "book row kind past", "compiler.machine_of": "book", "compiler.full_machine": "book",
+    "compiler.is_machine_of": "book machine", "back.book_of": "machine", "alike.joint_points": "one other", "alike.are_alike": "one other",
+    "alike.is_parting": "one other thing", "alike.parting_run": "one other", "favours.run_ahead": "machine row kind rival",
+    "favours.never_worse": "one other row kind rival",
 }
 PLAYER = {"do": "self deed thing", "last_steps": "self", "stand_now": "self", "row_now": "self row", "run_done": "self", "mark_of": "self x",
           "note_of": "self x y", "undo": "self", "copied": "self", "__eq__": "self other"}
