@@ -32,6 +32,12 @@ INTERFACE = {
     "back": "book_of",
     "alike": "joint_points are_alike is_parting parting_run",
     "favours": "run_ahead never_worse",
+    "beside": "classes_of rank_choices only_kind side_by_side ranks_between class_orders",
+    "over": "is_map hand_over jump_of find_map maps_many",
+    "store": "Store",
+    "late": "Past",
+    "lanes": "Lane turns_by",
+    "serving": "is_house is_endless_ring most_alone least_alone most_comer most_services least_services most_run least_run endless_ring",
 }
 PARAMETERS = {
     "errors.Bothered": "self run some at", "errors.IsThere": "self thing", "errors.NoIndex": "self index", "errors.NoOrder": "self pair",
@@ -55,10 +61,25 @@ PARAMETERS = {
     "twins.live_at": "book row kind past", "compiler.machine_of": "book", "compiler.full_machine": "book",
     "compiler.is_machine_of": "book machine", "back.book_of": "machine", "alike.joint_points": "one other", "alike.are_alike": "one other",
     "alike.is_parting": "one other thing", "alike.parting_run": "one other", "favours.run_ahead": "machine row kind rival",
-    "favours.never_worse": "one other row kind rival",
+    "favours.never_worse": "one other row kind rival", "beside.classes_of": "machine", "beside.rank_choices": "one other",
+    "beside.only_kind": "machine kind", "beside.side_by_side": "one other ranks", "beside.ranks_between": "machine",
+    "beside.class_orders": "one other", "over.is_map": "one other thing", "over.hand_over": "table figures", "over.jump_of": "one other table",
+    "over.find_map": "one other", "over.maps_many": "one other", "store.Store": "self machine", "late.Past": "self machine",
+    "lanes.Lane": "self machine figures order", "lanes.turns_by": "machine run stops", "serving.is_house": "thing",
+    "serving.is_endless_ring": "house x y thing", "serving.most_alone": "house x y", "serving.least_alone": "house x y",
+    "serving.most_comer": "house x kind", "serving.most_services": "house figures thing comers",
+    "serving.least_services": "house figures thing", "serving.most_run": "house figures thing comers",
+    "serving.least_run": "house figures thing", "serving.endless_ring": "house x y",
 }
-PLAYER = {"do": "self deed thing", "last_steps": "self", "stand_now": "self", "row_now": "self row", "run_done": "self", "mark_of": "self x",
-          "note_of": "self x y", "undo": "self", "copied": "self", "__eq__": "self other"}
+METHODS_OF = {
+    "player.Player": {"do": "deed thing", "last_steps": "", "stand_now": "", "row_now": "row", "run_done": "", "mark_of": "x", "note_of": "x y",
+                      "undo": "", "copied": "", "__eq__": "other"},
+    "store.Store": {"do": "deed thing", "now": "", "many": "", "place_of": "thing", "row": "", "figures": "", "figure_of": "thing",
+                    "thing_at": "index", "foremost": "points", "copied": ""},
+    "late.Past": {"put_in": "index deed thing", "take_out": "index", "undo": "", "redo": "", "log": "", "row": "", "figures": "",
+                  "indexes_of": "thing"},
+    "lanes.Lane": {"row": "", "wrong_at": "", "settle": "", "figures": "", "many_wrong": "", "turn": "index", "do": "deed thing", "copied": ""},
+}
 
 BUILTINS = {"len", "range", "enumerate", "zip", "min", "max", "sum", "abs", "sorted", "reversed", "int", "str", "bool", "list", "tuple", "dict",
             "set", "isinstance", "any", "all", "divmod", "ValueError"}
@@ -274,10 +295,12 @@ class LanguageTest(unittest.TestCase):
                     node = made[0] if made else None
                 if node is not None:
                     self.assertEqual(" ".join(one.arg for one in node.args.args), PARAMETERS[f"{stem}.{name}"])
-        player = [node for node in tree_of(FOLDER / "player.py").body if isinstance(node, ast.ClassDef)][0]
-        methods = {node.name: " ".join(one.arg for one in node.args.args) for node in player.body if isinstance(node, ast.FunctionDef)}
-        for name, parameters in PLAYER.items():
-            self.assertEqual(methods[name], parameters)
+        for place, methods in METHODS_OF.items():
+            stem, name = place.split(".")
+            found = [node for node in tree_of(FOLDER / f"{stem}.py").body if isinstance(node, ast.ClassDef) and node.name == name][0]
+            defined = {node.name: " ".join(one.arg for one in node.args.args) for node in found.body if isinstance(node, ast.FunctionDef)}
+            for method, parameters in methods.items():
+                self.assertEqual(defined[method], f"self {parameters}".strip())
 
 
 if __name__ == "__main__":
