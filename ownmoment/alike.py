@@ -70,7 +70,7 @@ def _one_sided_tuple(one, other, joint, x):
 def is_parting(one, other, thing):
     """Whether it is a list of tuples by the last of which one sees that the two machines are not alike."""
     refuse_unlike(one, other)
-    if not (isinstance(thing, list) and len(thing) > 0 and all([_is_tuple_led(one, done) for done in thing])):
+    if not (isinstance(thing, list) and all([_is_tuple_led(one, done) for done in thing])):
         return False
     last = len(thing) - 1
     barred = [first_barred(one, thing), first_barred(other, thing)]
@@ -189,7 +189,7 @@ def _least_by_stand(one, other, row, joints, ranks, is_behind):
     is_open tells whether there can be an overtaking among things with the same ranks in both machines because
     of this joint point, whatever the other one is.
     """
-    places = [{rank: at for at, rank in enumerate(some)} for some in ranks]
+    places = [{value: at for at, value in enumerate(some)} for some in ranks]
     found = {}
     for joint, (many, _, _) in joints.items():
         rank, way, mine = stand_at(one, row, joint, 0)

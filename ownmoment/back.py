@@ -112,7 +112,8 @@ def _taken(weaving, take):
 
 def _leaps(points, some):
     """Brings a thing that stands at the back and is now at one of the points to its place."""
-    return [("leap", 0, _passed_by(points, point)) for point in sorted({point: True for point in some})]
+    different = sorted({point: True for point in some})
+    return [("leap", 0, _passed_by(points, point)) for point in different]
 
 
 def _passed_by(points, point):

@@ -26,8 +26,12 @@ def only_kind(machine, kind):
     kept = sorted(found)
     number = {point: at for at, point in enumerate(kept)}
     return ((number[begins[kind]],), tuple([points[point] for point in kept]),
-            tuple([tuple([None if entry is None else (number[entry[0]], entry[1]) for entry in moves[point]])
-                   for point in kept]))
+            tuple([_renumbered(moves[point], number) for point in kept]))
+
+
+def _renumbered(move, number):
+    """The move with other numbers for the points, which number tells."""
+    return tuple([None if entry is None else (number[entry[0]], entry[1]) for entry in move])
 
 
 def side_by_side(one, other, ranks):
@@ -38,9 +42,9 @@ def side_by_side(one, other, ranks):
             if mine == theirs and ways[0][i] != ways[1][j]:
                 raise NoOrder((i, j))
     many = len(one[1])
-    moves = [tuple([None if entry is None else (entry[0] + many, entry[1]) for entry in move]) for move in other[2]]
+    behind = [many + point for point in range(len(other[1]))]
     return ((one[0][0], other[0][0] + many), _with_ranks(one, ranks[0]) + _with_ranks(other, ranks[1]),
-            one[2] + tuple(moves))
+            one[2] + tuple([_renumbered(move, behind) for move in other[2]]))
 
 
 def _with_ranks(machine, ranks):

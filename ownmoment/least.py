@@ -44,8 +44,8 @@ def _least_points(machine, needed, kept):
         found = sorted({points[point][0][row][0]: True for point in kept})
         ranks.append({rank: at for at, rank in enumerate(found)})
     return tuple([
-        (tuple([(ranks[row][rank], way, needed[point].index(at))
-                for row, (rank, way, at) in enumerate(points[point][0])]), len(needed[point]), points[point][2])
+        (tuple([(ranks[which][rank], way, needed[point].index(at))
+                for which, (rank, way, at) in enumerate(points[point][0])]), len(needed[point]), points[point][2])
         for point in kept])
 
 

@@ -168,6 +168,13 @@ def is_deed_of(machine, thing):
     return is_within(thing, -1, machine_deeds(machine) - 1)
 
 
+def are_points(machine, thing):
+    """Whether it is an ascending tuple of points of the machine."""
+    if not (isinstance(thing, tuple) and all([is_within(point, 0, len(machine[1]) - 1) for point in thing])):
+        return False
+    return all([thing[at] < thing[at + 1] for at in range(len(thing) - 1)])
+
+
 def is_thing_led(machine, thing):
     """Whether it is a thing of a kind of the machine."""
     return is_thing(thing) and thing[0] < machine_kinds(machine)

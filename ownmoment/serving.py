@@ -2,7 +2,7 @@
 
 from ownmoment.books import is_tuple_of, is_within
 from ownmoment.errors import Endless, NoWay
-from ownmoment.machines import is_machine, lead, machine_deeds, place_by
+from ownmoment.machines import are_points, is_machine, lead, machine_deeds, place_by
 
 
 def is_house(thing):
@@ -10,12 +10,9 @@ def is_house(thing):
     if not (is_tuple_of(thing, 3) and is_machine(thing[0]) and is_within(thing[1], 1, machine_deeds(thing[0]) - 1)):
         return False
     machine, served, waits = thing
-    if not (isinstance(waits, tuple) and len(waits) > 0):
+    if not (are_points(machine, waits) and len(waits) > 0):
         return False
-    if not all([is_within(point, 0, len(machine[1]) - 1) for point in waits]):
-        return False
-    return (all([waits[at] < waits[at + 1] for at in range(len(waits) - 1)])
-            and all([machine[2][point][served - 1] is not None for point in waits]))
+    return all([machine[2][point][served - 1] is not None for point in waits])
 
 
 class Wait:

@@ -1,8 +1,8 @@
 """A store of things that a machine sorts, for many things and many deeds."""
 
-from ownmoment.books import is_integer, is_thing, is_within
+from ownmoment.books import is_integer, is_thing
 from ownmoment.errors import IsThere, NoIndex, NotLet, NotThere, Wrong
-from ownmoment.machines import can_lead, is_deed_of, is_machine, is_thing_led, lead, place_by
+from ownmoment.machines import are_points, can_lead, is_deed_of, is_machine, is_thing_led, lead, place_by
 
 
 class Store:
@@ -63,7 +63,7 @@ class Store:
 
     def foremost(self, points):
         """The foremost thing that is at one of the points, or None."""
-        if not _are_points(self._machine, points):
+        if not are_points(self._machine, points):
             raise Wrong(0)
         found = [self._places_at[point][0] for point in points if self._places_at[point]]
         return min(found)[1] if found else None
@@ -101,13 +101,6 @@ class Store:
             raise Wrong(0)
         if thing not in self._figures:
             raise NotThere(thing)
-
-
-def _are_points(machine, thing):
-    """Whether it is an ascending tuple of points."""
-    if not (isinstance(thing, tuple) and all([is_within(point, 0, len(machine[1]) - 1) for point in thing])):
-        return False
-    return all([thing[at] < thing[at + 1] for at in range(len(thing) - 1)])
 
 
 def check_tuple(machine, deed, thing):

@@ -217,6 +217,29 @@ class LanguageTest(unittest.TestCase):
                 if isinstance(node, ast.Name) and node.id == "_":
                     self.assertIsInstance(node.ctx, ast.Store)
 
+    def test_names_in_comprehensions(self):
+        """Within another comprehension, a variable is a name that nothing further out assigns."""
+        comprehensions = (ast.ListComp, ast.DictComp)
+
+        def targets(node):
+            return {one.id for part in node.generators for one in ast.walk(part.target) if isinstance(one, ast.Name)} - {"_"}
+
+        def check(node, taken, is_nested):
+            for child in ast.iter_child_nodes(node):
+                if isinstance(child, comprehensions):
+                    if is_nested:
+                        self.assertFalse(targets(child) & taken, targets(child) & taken)
+                    check(child, taken | targets(child), True)
+                else:
+                    check(child, taken, is_nested)
+
+        def assigned(node):
+            names = {node.id} if isinstance(node, ast.Name) and isinstance(node.ctx, ast.Store) else set()
+            return names.union(*(assigned(child) for child in ast.iter_child_nodes(node) if not isinstance(child, comprehensions)))
+        for _, tree in self.each():
+            for function in functions_in(tree):
+                check(function, assigned(function) | {one.arg for one in function.args.args}, False)
+
     def test_words(self):
         for file, tree in self.each():
             docs = {ast.get_docstring(node, clean=False) for node in ast.walk(tree)
