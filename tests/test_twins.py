@@ -78,6 +78,13 @@ class CriticalTest(unittest.TestCase):
             self.assertEqual(critical_at(ELDER_BOOK, 0, 0, past), at)
             self.assertEqual(live_at(ELDER_BOOK, 0, 0, past), live)
 
+    def test_by_another_deed(self):
+        # The same with the two deeds exchanged: the moment of asking counts behind deed 1 alone.
+        book = ELDER_BOOK[:4] + ((ELDER_BOOK[4][0], ELDER_BOOK[4][2], ELDER_BOOK[4][1]),)
+        for past, at, live in (((), 0, (0,)), ((2,), 0, (0, 1)), ((2, 1), 1, (1,))):
+            self.assertEqual(critical_at(book, 0, 0, past), at)
+            self.assertEqual(live_at(book, 0, 0, past), live)
+
     def test_two_rows(self):
         for past, first, second in (((), 0, 0), ((1,), 1, 0), ((2,), 0, 1), ((1, 2), 1, 2), ((2, 1, 1), 3, 1), ((1, 2, 2, 1, 2), 4, 5)):
             self.assertEqual([critical_at(APART_BOOK, row, 0, past) for row in (0, 1)], [first, second])
