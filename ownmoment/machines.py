@@ -192,6 +192,18 @@ def place_by(machine, row, figure):
     return (rank, -times[at] if way == "later" else times[at])
 
 
+def stance_by(machine, row, figure):
+    """The rank of a thing and the moment by which it stands."""
+    point, times = figure
+    rank, _, at = machine[1][point][0][row]
+    return (rank, times[at])
+
+
+def ways_in(machine, row):
+    """For each rank in the row its way."""
+    return {stands[row][0]: stands[row][1] for stands, _, _ in machine[1]}
+
+
 def row_by(machine, row, figures):
     """The things as they stand in the row, the front first."""
     return [x for x, _ in sorted(figures, key=lambda one: place_by(machine, row, one[1]))]

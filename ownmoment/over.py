@@ -40,22 +40,28 @@ def jump_of(one, other, table):
     for row in range(machine_rows(one)):
         for point in points:
             for rival in points:
-                for weaving in _weavings(one[1][point][1], one[1][rival][1]):
+                for weaving in weavings_of(one[1][point][1], one[1][rival][1]):
                     if _is_jump(one, other, table, row, (point, rival), weaving):
                         return (row, point, rival, weaving)
     return None
 
 
-def _weavings(mine, theirs):
+def weavings_of(mine, theirs):
     """The ascending list of the tuples of so many 0 and so many 1."""
     if mine == 0 or theirs == 0:
         return [(0,) * mine + (1,) * theirs]
-    return [(0,) + rest for rest in _weavings(mine - 1, theirs)] + [(1,) + rest for rest in _weavings(mine, theirs - 1)]
+    firsts = [(0,) + rest for rest in weavings_of(mine - 1, theirs)]
+    return firsts + [(1,) + rest for rest in weavings_of(mine, theirs - 1)]
+
+
+def figures_woven(points, weaving):
+    """Figures of two things at two points with moments woven so."""
+    return [(point, tuple([now for now, which in enumerate(weaving) if which == whose]))
+            for whose, point in enumerate(points)]
 
 
 def _is_jump(one, other, table, row, points, weaving):
-    figures = [(point, tuple([now for now, which in enumerate(weaving) if which == whose]))
-               for whose, point in enumerate(points)]
+    figures = figures_woven(points, weaving)
     handed = [_handed(table, figure) for figure in figures]
     return is_ahead_by(one, row, figures[0], figures[1]) != is_ahead_by(other, row, handed[0], handed[1])
 

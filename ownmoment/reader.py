@@ -51,20 +51,21 @@ def _lines_of(text):
 
 def _run_tuple(words):
     if words[0] == "deed" and len(words) == 3:
-        deed = _number(words[1])
-        thing = _thing(words[2])
+        deed = read_number(words[1])
+        thing = read_thing(words[2])
         return None if thing is None or not deed else (deed, thing)
     if len(words) != 2 or words[0] not in ("come", "go"):
         return None
-    thing = _thing(words[1])
+    thing = read_thing(words[1])
     return None if thing is None else (0 if words[0] == "come" else -1, thing)
 
 
-def _thing(word):
+def read_thing(word):
+    """The thing that is written so, or None."""
     parts = word.split(".")
     if len(parts) != 2:
         return None
-    kind, number = _number(parts[0]), _number(parts[1])
+    kind, number = read_number(parts[0]), read_number(parts[1])
     if kind is None or number is None or kind >= MOST_KINDS or number > GREATEST_NUMBER:
         return None
     return (kind, number)
@@ -76,7 +77,7 @@ def _first_line(line):
     begin = words[1:-6]
     if indent or words[0] != "book" or not 1 <= len(begin) <= MOST_KINDS or words[-6::2] != ["marks", "rows", "notes"]:
         raise NoText(number)
-    marks, rows, notes = [_number(word) for word in words[-5::2]]
+    marks, rows, notes = [read_number(word) for word in words[-5::2]]
     if not (_is_counted(marks, MOST_MARKS) and _is_counted(rows, MOST_ROWS) and _is_counted(notes, MOST_NOTES)):
         raise NoText(number)
     begin = _numbers(begin, marks)
@@ -156,7 +157,7 @@ def _statement(words, sizes):
         return None if test is None or mine is None or theirs is None else (word, test, mine, theirs)
     if len(words) < 2 or _number_below(words[1], rows) is None:
         return None
-    row = _number(words[1])
+    row = read_number(words[1])
     if word in ("first", "last", "up", "down"):
         return (word, row) if len(words) == 2 else None
     if word in ("pass", "yield", "leap", "fall"):
@@ -229,11 +230,11 @@ def _numbers(words, limit):
 
 
 def _number_below(word, limit):
-    number = _number(word)
+    number = read_number(word)
     return number if number is not None and number < limit else None
 
 
-def _number(word):
+def read_number(word):
     """The number that is written so, or None."""
     if not 1 <= len(word) <= MOST_DIGITS or (word[0] == "0" and word != "0"):
         return None

@@ -230,3 +230,26 @@ JUST_OVER = (
         ((0, 1), (("first", 0),)),
     ))),
 )
+
+
+def spoil(value):
+    """Changes each list in a value."""
+    if isinstance(value, (list, tuple)):
+        for part in list(value):
+            spoil(part)
+    if isinstance(value, list):
+        value.append("spoiled")
+        value.reverse()
+
+
+def asked(function, *arguments):
+    """What the function returns. Its arguments stay as they are, what it returned before was its own, and is the same."""
+    before = lasting(arguments)
+    first = function(*arguments)
+    told = lasting(first)
+    spoil(first)
+    assert lasting(arguments) == before, "the arguments are not as they were"
+    second = function(*arguments)
+    assert lasting(second) == told, "what is returned is not the same, or not new"
+    assert lasting(arguments) == before, "the arguments are not as they were"
+    return second

@@ -38,6 +38,18 @@ INTERFACE = {
     "late": "Past",
     "lanes": "Lane turns_by",
     "serving": "is_house is_endless_ring most_alone least_alone most_comer most_services least_services most_run least_run endless_ring",
+    "turns": "keeps_waiting round_of turns_of shares_of served_ahead",
+    "logs": "meeting_moments least_log spare_tuples are_alike_logs can_swap shortest_past",
+    "orders": "critical_tuples surely_ahead rows_that_stand order_for_row row_bar",
+    "doubts": "choices_many rows_in_doubt choice_for_row ahead_in_doubt",
+    "leading": "ways_to_stand prices_to fewest_to is_price_table",
+    "places": "fewest_into fewest_out",
+    "unseen": "sure_movers points_now fewest_movers",
+    "ties": "is_tie is_tied ties_among weavings_between tying_weavings weaving_by",
+    "rings": "most_in_chain chain_of ring_of order_fault",
+    "closings": "closing_table does_close is_closing_table",
+    "ledger": "Ledger",
+    "desk": "Desk",
 }
 PARAMETERS = {
     "errors.Bothered": "self run some at", "errors.IsThere": "self thing", "errors.NoIndex": "self index", "errors.NoOrder": "self pair",
@@ -69,7 +81,24 @@ PARAMETERS = {
     "serving.is_endless_ring": "house x y thing", "serving.most_alone": "house x y", "serving.least_alone": "house x y",
     "serving.most_comer": "house x kind", "serving.most_services": "house figures thing comers",
     "serving.least_services": "house figures thing", "serving.most_run": "house figures thing comers",
-    "serving.least_run": "house figures thing", "serving.endless_ring": "house x y",
+    "serving.least_run": "house figures thing", "serving.endless_ring": "house x y", "turns.keeps_waiting": "house",
+    "turns.round_of": "house figures", "turns.turns_of": "house figures many", "turns.shares_of": "house figures",
+    "turns.served_ahead": "house x y count", "logs.meeting_moments": "machine one other", "logs.least_log": "machine log",
+    "logs.spare_tuples": "machine log", "logs.are_alike_logs": "machine one other", "logs.can_swap": "machine log index",
+    "logs.shortest_past": "machine kind point", "orders.critical_tuples": "machine log row", "orders.surely_ahead": "machine log before row",
+    "orders.rows_that_stand": "machine log before row", "orders.order_for_row": "machine log before row things",
+    "orders.row_bar": "machine log before row things", "doubts.choices_many": "machine log doubtful",
+    "doubts.rows_in_doubt": "machine log doubtful row", "doubts.choice_for_row": "machine log doubtful row things",
+    "doubts.ahead_in_doubt": "machine log doubtful row x y", "leading.ways_to_stand": "machine figure row",
+    "leading.prices_to": "machine figures row things", "leading.fewest_to": "machine figures row things",
+    "leading.is_price_table": "machine figures row things table", "places.fewest_into": "machine figures row thing many",
+    "places.fewest_out": "machine figures row thing many comers", "unseen.sure_movers": "machine figures row things",
+    "unseen.points_now": "machine figures row things", "unseen.fewest_movers": "machine figures row things", "ties.is_tie": "rows thing",
+    "ties.is_tied": "machine tie one other", "ties.ties_among": "machine tie figures", "ties.weavings_between": "machine one other",
+    "ties.tying_weavings": "machine tie one other", "ties.weaving_by": "one other", "rings.most_in_chain": "machine tie",
+    "rings.chain_of": "machine tie many", "rings.ring_of": "machine tie", "rings.order_fault": "machine tie",
+    "closings.closing_table": "machine tie", "closings.does_close": "machine tie entry", "closings.is_closing_table": "machine tie thing",
+    "ledger.Ledger": "self book", "desk.Desk": "self text",
 }
 METHODS_OF = {
     "player.Player": {"do": "deed thing", "last_steps": "", "stand_now": "", "row_now": "row", "run_done": "", "mark_of": "x", "note_of": "x y",
@@ -79,6 +108,9 @@ METHODS_OF = {
     "late.Past": {"put_in": "index deed thing", "take_out": "index", "undo": "", "redo": "", "log": "", "row": "", "figures": "",
                   "indexes_of": "thing"},
     "lanes.Lane": {"row": "", "wrong_at": "", "settle": "", "figures": "", "many_wrong": "", "turn": "index", "do": "deed thing", "copied": ""},
+    "ledger.Ledger": {"set_begin": "kind mark", "set_deed": "deed entry", "drop_deed": "", "keep": "claim", "drop": "index", "undo": "", "redo": "",
+                      "claims_now": "", "states_now": "", "deeds_done": "", "book_now": "", "many_undone": ""},
+    "desk.Desk": {"book_now": "", "do": "command"},
 }
 
 BUILTINS = {"len", "range", "enumerate", "zip", "min", "max", "sum", "abs", "sorted", "reversed", "int", "str", "bool", "list", "tuple", "dict",
@@ -92,10 +124,10 @@ BARRED = {"register", "mro", "elements", "open", "input", "law", "version_info",
           "id", "importlib", "license", "locals", "methodcaller", "os", "quit", "setattr", "super", "type", "vars", "sys", "typing", "enum",
           "namedtuple", "dataclass", "overload", "contextmanager"}
 STATEMENTS = (ast.Assign, ast.AugAssign, ast.If, ast.While, ast.For, ast.Return, ast.Break, ast.Continue, ast.Pass, ast.Raise, ast.Delete,
-              ast.Expr, ast.FunctionDef, ast.ClassDef, ast.ImportFrom)
+              ast.Expr, ast.FunctionDef, ast.ClassDef, ast.ImportFrom, ast.Try)
 EXPRESSIONS = (ast.Constant, ast.Name, ast.Attribute, ast.Subscript, ast.Slice, ast.Call, ast.BinOp, ast.UnaryOp, ast.BoolOp, ast.Compare,
                ast.IfExp, ast.List, ast.Tuple, ast.Dict, ast.ListComp, ast.DictComp, ast.Lambda, ast.JoinedStr, ast.FormattedValue, ast.Starred)
-OTHERS = (ast.Module, ast.arguments, ast.arg, ast.comprehension, ast.alias, ast.keyword, ast.expr_context, ast.operator, ast.unaryop,
+OTHERS = (ast.Module, ast.ExceptHandler, ast.arguments, ast.arg, ast.comprehension, ast.alias, ast.keyword, ast.expr_context, ast.operator, ast.unaryop,
           ast.boolop, ast.cmpop)
 
 
@@ -145,15 +177,25 @@ class LanguageTest(unittest.TestCase):
             for node in ast.walk(tree):
                 self.assertIsInstance(node, STATEMENTS + EXPRESSIONS + OTHERS, ast.dump(node)[:80])
                 if isinstance(node, ast.Compare) and any(isinstance(sign, (ast.Is, ast.IsNot)) for sign in node.ops):
-                    self.assertTrue(isinstance(node.comparators[0], ast.Constant) and node.comparators[0].value is None)
+                    self.assertTrue(isinstance(node.comparators[0], ast.Constant) and any(node.comparators[0].value is one for one in (None, True, False)))
                 if isinstance(node, ast.BinOp):
                     self.assertIsInstance(node.op, (ast.Add, ast.Sub, ast.Mult, ast.FloorDiv))
                 if isinstance(node, ast.Constant):
                     self.assertIsInstance(node.value, (int, str, type(None)))
                     if isinstance(node.value, str):
                         self.assertNotIn("%", node.value)
+                if isinstance(node, ast.Try):
+                    self.check_try(node)
                 if isinstance(node, ast.Raise):
                     self.assertTrue(isinstance(node.exc, ast.Call) and isinstance(node.exc.func, ast.Name) and node.cause is None)
+
+    def check_try(self, node):
+        """Own errors alone are caught, by their names, and nothing is made of them."""
+        self.assertEqual((node.orelse, node.finalbody), ([], []))
+        for handler in node.handlers:
+            self.assertIsNone(handler.name)
+            names = handler.type.elts if isinstance(handler.type, ast.Tuple) else [handler.type]
+            self.assertTrue(all(isinstance(name, ast.Name) and name.id in INTERFACE["errors"].split() and name.id != "MomentError" for name in names))
 
     def test_module_level(self):
         for _, tree in self.each():
