@@ -76,8 +76,9 @@ def entries_of(links):
     todo = list(found)
     at = 0
     while at < len(todo):
-        for further, weaving in further_entries(links, todo[at]):
-            if _keep(found, further, todo[at], weaving):
+        entry = todo[at]
+        for further, weaving in further_entries(links, entry):
+            if _keep(found, further, entry, weaving):
                 todo.append(further)
         at += 1
     return found

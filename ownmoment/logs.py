@@ -79,9 +79,10 @@ def shortest_past(machine, kind, point):
     todo = [begin]
     at = 0
     while at < len(todo) and point not in pasts:
-        for which, entry in enumerate(machine[2][todo[at]]):
+        here = todo[at]
+        for which, entry in enumerate(machine[2][here]):
             if entry is not None and entry[0] not in pasts:
-                pasts[entry[0]] = pasts[todo[at]] + [which + 1]
+                pasts[entry[0]] = pasts[here] + [which + 1]
                 todo.append(entry[0])
         at += 1
     return pasts.get(point)

@@ -8,7 +8,8 @@ MOST_ROWS = 1000
 
 def critical_tuples(machine, log, row):
     """The tuples (thing, index of the tuple by which it stands in the row), ascending."""
-    return [(x, index) for x, (_, index) in _stances(machine, log, row).items()]
+    stances = _stances(machine, log, row)
+    return [(x, index) for x, (_, index) in stances.items()]
 
 
 def _stances(machine, log, row):
@@ -110,7 +111,8 @@ def order_by(many, pairs):
     order = [i for i in range(many) if waits[i] == 0]
     at = 0
     while at < len(order):
-        for j in behind[order[at]]:
+        here = order[at]
+        for j in behind[here]:
             waits[j] -= 1
             if waits[j] == 0:
                 order.append(j)
@@ -119,8 +121,8 @@ def order_by(many, pairs):
 
 
 def _ring_of(steps, done):
-    """A ring of steps between what is not done, to each of which a step leads from another one."""
-    into = {step[1]: step for step in steps if step[0] not in done and step[1] not in done}
+    """A ring of steps between what is not done: to each of this leads a step from another one that is not."""
+    into = {step[1]: step for step in steps if step[0] not in done}
     at = min(into)
     passed = {}
     path = []

@@ -132,11 +132,11 @@ def _shown(machine, places, ties):
     ties has tuples (i, j, weaving) of two of these things, by which their moments can follow one another.
     """
     chain = []
-    many = {}
+    numbers = {}
     for point, _ in places:
         kind = machine[1][point][2][0]
-        chain.append((kind, many.get(kind, 0)))
-        many[kind] = many.get(kind, 0) + 1
+        chain.append((kind, numbers.get(kind, 0)))
+        numbers[kind] = numbers.get(kind, 0) + 1
     log, pairs, moments = [], [], []
     for x, (point, some) in zip(chain, places):
         own = own_log(machine, x, point)

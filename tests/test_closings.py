@@ -204,6 +204,15 @@ class IsTableTest(unittest.TestCase):
         for value in any_values():
             for other in (value, [value], table + [value], [value] + table, [(value, 0, (1, 1), (0,))], [(1, 0, value, (0,))], [(1, 0, (1, value), (0,))]):
                 self.assertIs(is_closing_table(ELDER_LABELLED, tie, other), self.good(ELDER_LABELLED, tie, other), other)
+        # Nothing comes of a further entry here: so it may be any one by form, and no other one.
+        for one in ((0, 0, (1,), (1,)), (0, 2, (0,), (1,)), (2, 1, (2,), (0, 1)), (0, 0, (0,), (0,))):
+            self.assertIs(is_closing_table(ELDER_LABELLED, tie, sorted(table + [one])), one[1] != 1)
+            if one[1] == 1:
+                continue
+            for at, value in ((0, -1), (0, 3), (1, -1), (1, 3), (2, (-1,)), (2, (2,)), (3, (-1,)), (3, (2,)), (2, ()), (3, (0, 0))):
+                other = (*one[:at], value, *one[at + 1:])
+                self.assertIs(is_closing_table(ELDER_LABELLED, tie, sorted(table + [other])), self.good(ELDER_LABELLED, tie, sorted(table + [other])), other)
+                self.assertIs(self.good(ELDER_LABELLED, tie, sorted(table + [other])), False)
         for other in ([(True, 0, (1, 1), (0,))], [(1, False, (1, 1), (0,))], [(1, 0, (1, True), (0,))], [(1, 0, (1, 1), (False,))]):
             self.assertEqual(other, table)
             self.assertIs(is_closing_table(ELDER_LABELLED, tie, other), False)

@@ -170,6 +170,10 @@ class OutTest(unittest.TestCase):
         figures = [((0, number), (0, (number,))) for number in range(10000) if number != 77]
         number, run = fewest_out(USE, figures, 0, (0, 9999), 9999, 1)
         self.assertEqual((number, sorted(run)), (9999, [(0, (0, 77))] + [(1, x) for x, _ in figures[:-1]]))
+        for number in (9999, 9998, 0):
+            figures = [((0, other), (0, (other,))) for other in range(10000) if other != number]
+            self.assertIn((0, (0, number)), fewest_out(USE, figures, 0, (0, 500), 9999, 1)[1])
+        figures = [((0, number), (0, (number,))) for number in range(10000) if number != 77]
         self.assertIsNone(fewest_out(USE, figures, 0, (0, 9999), 10000, 10 ** 30))
         self.assertEqual(fewest_out(USE, figures, 0, (0, 9999), 1, 0), (1, [(1, (0, 0))]))
 
