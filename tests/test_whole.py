@@ -65,6 +65,7 @@ class WholeTest(unittest.TestCase):
     def test_all_agree(self):
         chance = random.Random(523)
         many = {"bothered": 0, "unbothered": 0, "more": 0}
+        self.seen = set()
         for book in self.books():
             text = show_book(book)
             self.assertEqual(read_book(text), book)
@@ -84,6 +85,8 @@ class WholeTest(unittest.TestCase):
                 self.unbothered(chance, book, text, machine, full)
                 many["more"] += len(full[1]) > 2
         self.assertGreater(min(many.values()), 30, many)
+        wanted = {("ring", 2), ("ring", None), ("chain", 2), ("chain", 4), ("fault", 3), ("fault", None), ("fewest", None), ("fewest", 0), ("fewest", 1), ("fewest", 2)}
+        self.assertTrue(wanted <= self.seen, wanted - self.seen)
 
     def bothered(self, book, text, found):
         run, some, at = found
@@ -177,6 +180,7 @@ class WholeTest(unittest.TestCase):
             things = list(player.row_now(row))
             for wished in [things, things[::-1]] + [chance.sample(things, len(things)) for _ in range(3)]:
                 found = fewest_to(full, figures, row, wished)
+                self.seen.add(("fewest", found and found[0]))
                 table = prices_to(full, figures, row, wished)
                 self.assertTrue(is_price_table(full, figures, row, wished, table))
                 if found is None:
@@ -203,6 +207,7 @@ class WholeTest(unittest.TestCase):
                 continue
             self.assertTrue(is_closing_table(full, tie, table))
             ring = ring_of(full, tie)
+            self.seen.add(("ring", ring and len(ring[1])))
             self.assertEqual(ring is not None, any(does_close(full, tie, entry) for entry in table))
             ledger = Ledger(book)
             ledger.keep(("no ring", tie))
@@ -213,8 +218,10 @@ class WholeTest(unittest.TestCase):
             for many in (1, 2, 4):
                 chain = chain_of(full, tie, many)
                 if chain is not None:
+                    self.seen.add(("chain", many))
                     self.tied_in(book, full, tie, chain[0], list(zip(chain[1], chain[1][1:])))
             fault = order_fault(full, tie)
+            self.seen.add(("fault", fault and len(fault[1])))
             if fault is not None:
                 self.tied_in(book, full, tie, fault[0], list(zip(fault[1], fault[1][1:])))
 
